@@ -34,8 +34,8 @@ func Seal(key uint32, f api.Frame) []byte {
 	epoch, seq := uint32(f.Epoch), uint32(f.Seq)
 	out := make([]byte, 0, api.FrameSize)
 	out = append(out, byte(f.Kind), byte(f.Index))
-	out = appendNumber(out, epoch)
-	out = appendNumber(out, seq)
+	out = AppendNumber(out, epoch)
+	out = AppendNumber(out, seq)
 	out = append(out, mask(key, epoch, seq, f.Body)...)
 	return appendTag(out, key)
 }
@@ -45,7 +45,7 @@ func Open(key uint32, b []byte) (api.Frame, bool) {
 	if len(b) != api.FrameSize || !isKind(int(b[kindAt])) || !tagFits(key, b) {
 		return api.Frame{}, false
 	}
-	epoch, seq := number(b[epochAt:]), number(b[seqAt:])
+	epoch, seq := Number(b[epochAt:]), Number(b[seqAt:])
 	return api.Frame{
 		Kind:  int(b[kindAt]),
 		Index: int(b[indexAt]),
@@ -76,13 +76,15 @@ func appendTag(head []byte, key uint32) []byte {
 		first = step(first, uint32(b))
 		second = step(second, uint32(b))
 	}
-	return appendNumber(appendNumber(head, first), second)
+	return AppendNumber(AppendNumber(head, first), second)
 }
 
-func appendNumber(b []byte, n uint32) []byte {
+// AppendNumber lays n down behind b, in four bytes.
+func AppendNumber(b []byte, n uint32) []byte {
 	return append(b, byte(n>>24), byte(n>>16), byte(n>>8), byte(n))
 }
 
-func number(b []byte) uint32 {
+// Number tells which number the first four bytes of b are.
+func Number(b []byte) uint32 {
 	return uint32(b[0])<<24 | uint32(b[1])<<16 | uint32(b[2])<<8 | uint32(b[3])
 }

@@ -22,12 +22,12 @@ func TestSumExamples(t *testing.T) {
 }
 
 func TestNumberInFourBytes(t *testing.T) {
-	got := appendNumber(nil, 258)
+	got := AppendNumber(nil, 258)
 	if string(got) != "\x00\x00\x01\x02" {
 		t.Errorf("258 in four bytes = %x", got)
 	}
 	for _, n := range []uint32{0, 1, 255, 256, 1<<16 - 1, 1 << 16, 1 << 24, 1<<32 - 1, 0x12345678} {
-		if back := number(appendNumber(nil, n)); back != n {
+		if back := Number(AppendNumber(nil, n)); back != n {
 			t.Errorf("%d in four bytes and back = %d", n, back)
 		}
 	}
