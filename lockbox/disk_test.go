@@ -142,7 +142,7 @@ func boundBlocks(t *testing.T, h *api.Hand) [][]byte {
 	}
 	out := zeros(int(bind[0]))
 	w := zonesByHand{h, map[int]api.Zone{}}
-	root := w.found(t, placesIn(bind[1:])[0], api.Root, 0)
+	root := w.found(t, placesIn(bind[1:])[0], api.Root, len(out))
 	for i, leafAt := range placesIn(root.Body) {
 		if leafAt == (place{}) {
 			continue

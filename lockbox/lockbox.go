@@ -65,8 +65,8 @@ func Format(d *api.Disk, key int, blocks int) (*Store, api.Errno) {
 	if !fits(d, blocks) {
 		return nil, api.ErrGeometry
 	}
-	s := &Store{tree: newTree(d, key, blocks)}
-	if err := s.takeCount(); err != nil {
+	s := &Store{tree: newTree(newLog(d, key), blocks)}
+	if _, err := s.takeCount(); err != nil {
 		return nil, errno(err)
 	}
 	if s.count > api.MaxNumber-2 {
@@ -79,7 +79,28 @@ func Format(d *api.Disk, key int, blocks int) (*Store, api.Errno) {
 }
 
 // Mount takes up the store that is on a disk (P8).
-func Mount(d *api.Disk, key int) (*Store, api.Errno) { return nil, api.OK }
+func Mount(d *api.Disk, key int) (*Store, api.Errno) {
+	if d == nil || !frame.IsNumber(key) {
+		return nil, api.ErrArg
+	}
+	l := newLog(d, key)
+	bind, err := l.takeCount()
+	if err != nil {
+		return nil, errno(err)
+	}
+	if len(bind) == 0 {
+		return nil, api.ErrNone
+	}
+	blocks, root := unbind(bind)
+	if !isBlocks(blocks) || !fits(d, blocks) {
+		return nil, api.ErrIntegrity
+	}
+	s := &Store{tree: newTree(l, blocks)}
+	if err := s.mount(root); err != nil {
+		return nil, errno(err)
+	}
+	return s, api.OK
+}
 
 // Write lays a block down (P9).
 func (s *Store) Write(n int, b []byte) api.Errno {

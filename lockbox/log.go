@@ -27,9 +27,26 @@ type look struct {
 	err         error
 }
 
-// notDone tells why the disk did not do a call: it forbids none but those for which something must be there that is not.
-func (l *log) notDone(what string, zone int, slot int) error {
-	if l.disk.Off() {
+func newLog(d *api.Disk, key int) log {
+	l := log{disk: d, key: uint32(key)}
+	l.leave()
+	return l
+}
+
+// looksFor tells what to look for if the frames of a kind lie at those refs, one of each index.
+func looksFor(kind int, at []ref) []look {
+	var out []look
+	for i, r := range at {
+		if !r.isNone() {
+			out = append(out, look{kind: kind, index: i, at: r})
+		}
+	}
+	return out
+}
+
+// notDone tells why the disk did not do a call; off: whether the power was gone ahead of it (behind a call that was forbidden the power may be gone too). The disk forbids none but those for which something must be there that is not.
+func notDone(off bool, what string, zone int, slot int) error {
+	if off {
 		return &fault{what, zone, slot, errNoPower}
 	}
 	return &fault{what, zone, slot, errWrong}
@@ -38,20 +55,22 @@ func (l *log) notDone(what string, zone int, slot int) error {
 // spent tells whether the anchor can be advanced no more.
 func (l *log) spent() bool { return l.count >= api.MaxNumber }
 
-// takeCount takes up the anchor's count.
-func (l *log) takeCount() error {
-	count, _, ok := l.disk.Anchored()
+// takeCount takes up the anchor's count, and tells what is bound.
+func (l *log) takeCount() ([]byte, error) {
+	off := l.disk.Off()
+	count, bind, ok := l.disk.Anchored()
 	if !ok {
-		return l.notDone("the anchor", nowhere, nowhere)
+		return nil, notDone(off, "the anchor", nowhere, nowhere)
 	}
 	l.count = count
-	return nil
+	return bind, nil
 }
 
 // advance binds something to the anchor, and begins a new epoch.
 func (l *log) advance(bind []byte) error {
+	off := l.disk.Off()
 	if !l.disk.Advance(bind) {
-		return l.notDone("the anchor's advance", nowhere, nowhere)
+		return notDone(off, "the anchor's advance", nowhere, nowhere)
 	}
 	l.count++
 	l.seq = 0
@@ -59,15 +78,17 @@ func (l *log) advance(bind []byte) error {
 }
 
 func (l *log) flush() error {
+	off := l.disk.Off()
 	if !l.disk.Flush() {
-		return l.notDone("the flushing", nowhere, nowhere)
+		return notDone(off, "the flushing", nowhere, nowhere)
 	}
 	return nil
 }
 
 func (l *log) reset(zone int) error {
+	off := l.disk.Off()
 	if !l.disk.Reset(zone) {
-		return l.notDone("the reset of a zone", zone, 0)
+		return notDone(off, "the reset of a zone", zone, 0)
 	}
 	return nil
 }
@@ -116,9 +137,10 @@ func (l *log) layOne(b []byte, at ref) error {
 		}
 	}
 	l.zone, l.slot, l.seq = at.zone, at.slot+1, at.seq+1
+	off := l.disk.Off()
 	slot, ok := l.disk.Append(at.zone, b)
 	if !ok {
-		return l.notDone("a frame to be laid down", at.zone, at.slot)
+		return notDone(off, "a frame to be laid down", at.zone, at.slot)
 	}
 	if slot != at.slot {
 		return &fault{"a frame that came to lie elsewhere", at.zone, at.slot, errWrong}
@@ -167,9 +189,10 @@ func (l *log) openAll(looks []look) error {
 
 // fetch reads what lies where the frame must be.
 func (l *log) fetch(k *look) {
+	off := l.disk.Off()
 	b, ok := l.disk.Read(k.at.zone, k.at.slot)
 	if !ok {
-		k.err = l.notDone("a frame to be read", k.at.zone, k.at.slot)
+		k.err = notDone(off, "a frame to be read", k.at.zone, k.at.slot)
 		return
 	}
 	k.sealed = b

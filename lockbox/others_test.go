@@ -247,3 +247,127 @@ func numbersDiffer(t *testing.T, h *api.Hand) {
 		seen[[2]int{f.Epoch, f.Seq}] = true
 	}
 }
+
+// tamper does something to a disk with what lies on it, or lay there earlier.
+func tamper(h *api.Hand, zones int, earlier []disk, r *rand.Rand) {
+	z := r.IntN(zones)
+	x := h.Zone(z)
+	was := earlier[r.IntN(len(earlier))]
+	i := 0
+	if len(x.Frames) > 0 {
+		i = r.IntN(len(x.Frames))
+	}
+	switch r.IntN(8) {
+	case 0:
+		was.lay(h)
+		return
+	case 1:
+		x = was.zones[z]
+	case 2:
+		x = was.zones[r.IntN(zones)]
+	case 3:
+		x = api.Zone{}
+	case 4:
+		x.Frames = x.Frames[:i]
+		x.Kept = min(x.Kept, i)
+	case 5:
+		x.Frames = append(x.Frames, h.Log(r.IntN(h.Logged())))
+	case 6:
+		if len(x.Frames) > 0 {
+			x.Frames[i] = h.Log(r.IntN(h.Logged()))
+		}
+	case 7:
+		if len(x.Frames) > 0 {
+			x.Frames[i][r.IntN(len(x.Frames[i]))] ^= byte(1 << r.IntN(8))
+		}
+	}
+	h.Lay(z, x)
+}
+
+// Others write on the disk ahead of Mount: it is OK and right, or ErrIntegrity; and when all is brought back, it is OK.
+func TestOthersDoAnythingAheadOfMount(t *testing.T) {
+	mounted, refused := 0, 0
+	for seed := range 400 {
+		r := testRand(seed)
+		w := newWorld(t, 1+r.IntN(6), 1+r.IntN(16))
+		w.others = true
+		wantErrno(t, "P7: Format", w.format(), api.OK)
+		var earlier []disk
+		for i := range 60 {
+			for range r.IntN(8) {
+				wantErrno(t, "a call", w.chance(i, r, 2), api.OK)
+				earlier = append(earlier, take(w.h, w.d.Zones()))
+			}
+			good := take(w.h, w.d.Zones())
+			earlier = append(earlier, good)
+			for range 1 + r.IntN(3) {
+				tamper(w.h, w.d.Zones(), earlier, r)
+			}
+			e := w.mount()
+			if e == api.OK {
+				mounted++
+				continue
+			}
+			refused++
+			wantErrno(t, "P14: Mount of what others did", e, api.ErrIntegrity)
+			good.lay(w.h)
+			wantErrno(t, "P8: Mount of what was brought back", w.mount(), api.OK)
+		}
+	}
+	if mounted < 1000 || refused < 1000 {
+		t.Errorf("others do too little or too much: %d mounted, %d refused", mounted, refused)
+	}
+}
+
+// Others write on the disk between any calls: what Read tells is right, what Mount takes up was there, no number is used twice.
+func TestOthersDoAnythingBetweenCallsAndMounts(t *testing.T) {
+	for seed := range 800 {
+		r := testRand(seed)
+		w := newWorld(t, 1+r.IntN(6), 1+r.IntN(16))
+		w.others = true
+		wantErrno(t, "P7: Format", w.format(), api.OK)
+		var earlier []disk
+		for i := range 150 {
+			e := w.chance(i, r, 10)
+			earlier = append(earlier, take(w.h, w.d.Zones()))
+			if e != api.OK {
+				wantErrno(t, "P14: a call beside others", e, api.ErrIntegrity)
+				e = w.mount()
+			}
+			if e != api.OK {
+				wantErrno(t, "P14: Mount beside others", e, api.ErrIntegrity)
+				wantErrno(t, "P7: Format beside others", w.format(), api.OK)
+			}
+			if r.IntN(10) == 0 {
+				tamper(w.h, w.d.Zones(), earlier, r)
+			}
+		}
+	}
+}
+
+// Others write on the disk, and the power goes.
+func TestOthersAndThePower(t *testing.T) {
+	for seed := range 150 {
+		r := testRand(seed)
+		w := newWorld(t, 1+r.IntN(6), 1+r.IntN(16))
+		w.others = true
+		wantErrno(t, "P7: Format", w.format(), api.OK)
+		earlier := []disk{take(w.h, w.d.Zones())}
+		for i := range 100 {
+			w.h.Power(r.IntN(60))
+			e := api.OK
+			for e == api.OK && w.h.Left() > 0 {
+				e = w.chance(i, r, 10)
+				if r.IntN(20) == 0 {
+					tamper(w.h, w.d.Zones(), earlier, r)
+				}
+			}
+			w.powerGoes(cuts[r.IntN(3)], r)
+			earlier = append(earlier, take(w.h, w.d.Zones()))
+			if e = w.mount(); e != api.OK {
+				wantErrno(t, "P14: Mount beside others", e, api.ErrIntegrity)
+				wantErrno(t, "P7: Format beside others", w.format(), api.OK)
+			}
+		}
+	}
+}

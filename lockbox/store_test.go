@@ -148,17 +148,20 @@ func TestSyncMakesItLast(t *testing.T) {
 	}
 }
 
-func TestSyncOfWhatLastsNeedsNothing(t *testing.T) {
-	s, h := newStore(t, 5, 4, 5)
-	wantErrno(t, "P9: Write", s.Write(2, forty('a')), api.OK)
-	wantErrno(t, "P12: Sync", s.Sync(), api.OK)
-	before, calls := take(h, 5), h.Calls()
-	for range 5 {
-		wantErrno(t, "P12: Sync", s.Sync(), api.OK)
-		wantErrno(t, "P11: Trim of what is nothing", s.Trim(0), api.OK)
-	}
-	if h.Calls() != calls || !take(h, 5).is(before) {
-		t.Errorf("P12: Sync spends the anchor, though all lasts")
+// A Sync of what lasts already is one as any other.
+func TestSyncOfWhatLasts(t *testing.T) {
+	for _, slots := range []int{1, 4, 32} {
+		zones := least(slots, 5)
+		s, h := newStore(t, zones, slots, 5)
+		wantErrno(t, "P9: Write", s.Write(2, forty('a')), api.OK)
+		for i := range 500 {
+			wantErrno(t, "P16: Sync of what lasts", s.Sync(), api.OK)
+			wantErrno(t, "P11: Trim of what is nothing", s.Trim(0), api.OK)
+			cut(h, zones, testRand(i))
+			if now := boundBlocks(t, h); !bytes.Equal(now[2], forty('a')) || h.Wrong() != 0 {
+				t.Fatalf("P12: behind Sync the blocks are %q", now)
+			}
+		}
 	}
 }
 

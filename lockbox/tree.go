@@ -23,10 +23,8 @@ func newVersion(blocks int) version {
 	return version{blocks: make([]ref, blocks), leaves: make([]ref, leavesOf(blocks))}
 }
 
-func newTree(d *api.Disk, key int, blocks int) tree {
-	t := tree{log: log{disk: d, key: uint32(key)}, blocks: make([]ref, blocks), bound: newVersion(blocks)}
-	t.leave()
-	return t
+func newTree(l log, blocks int) tree {
+	return tree{log: l, blocks: make([]ref, blocks), bound: newVersion(blocks)}
 }
 
 // leavesOf tells how many leaves so many blocks have.
@@ -60,7 +58,7 @@ func newLeaves(blocks []ref, old version) []int {
 
 func isSome(r ref) bool { return !r.isNone() }
 
-// grow tells the version in which the blocks of old have come to lie as blocks says, and the frames above them that must be laid down for it, at the refs of at.
+// grow tells the version in which the blocks of old have come to lie as blocks says, and the frames above them that must be laid down for it, at the refs of at. The root has the number of blocks as its index: none is taken for that of a store of more or fewer.
 func grow(blocks []ref, old version, at []ref) (version, []api.Frame) {
 	v := version{blocks: slices.Clone(blocks), leaves: slices.Clone(old.leaves)}
 	for leaf := range v.leaves {
@@ -74,7 +72,7 @@ func grow(blocks []ref, old version, at []ref) (version, []api.Frame) {
 		frames = append(frames, api.Frame{Kind: api.Leaf, Index: leaf, Body: bodyOf(under(blocks, leaf))})
 	}
 	v.root = at[len(frames)]
-	return v, append(frames, api.Frame{Kind: api.Root, Body: bodyOf(v.leaves)})
+	return v, append(frames, api.Frame{Kind: api.Root, Index: len(blocks), Body: bodyOf(v.leaves)})
 }
 
 // empty tells the zones in which no frame lies that is bound or was laid down since and is still needed. They are reset ahead of their first frame.
@@ -97,11 +95,13 @@ func (t *tree) empty() []int {
 	return out
 }
 
+// toMove tells how many empty zones it takes to move everything.
+func (t *tree) toMove() int { return zonesOf(framesOf(len(t.blocks)), t.disk.Slots()) }
+
 // room tells where n more frames go, if zones and numbers enough to move everything are left behind that.
 func (t *tree) room(n int) ([]ref, bool) {
-	all := framesOf(len(t.blocks))
 	zones, need := t.empty(), t.zonesFor(n)
-	if len(zones)-need < zonesOf(all, t.disk.Slots()) || t.seq+n+all > api.MaxNumber {
+	if len(zones)-need < t.toMove() || t.seq+n+framesOf(len(t.blocks)) > api.MaxNumber {
 		return nil, false
 	}
 	return t.next(n, zones), true
@@ -138,11 +138,8 @@ func (t *tree) write(n int, b []byte) error {
 // trim needs the disk for nothing: that the block is gone is told by the next leaf above it.
 func (t *tree) trim(n int) { t.blocks[n] = ref{} }
 
-// sync binds the blocks as they are, if they are not bound so.
+// sync binds the blocks as they are. Even if they are bound so already there is a new root: with the zones that were there ahead of a Sync no store can be taken up.
 func (t *tree) sync() error {
-	if slices.Equal(t.blocks, t.bound.blocks) {
-		return nil
-	}
 	at, ok := t.room(len(newLeaves(t.blocks, t.bound)) + 1)
 	if !ok {
 		return t.move()
@@ -163,7 +160,7 @@ func (t *tree) bind(v version) error {
 	if err := t.flush(); err != nil {
 		return err
 	}
-	if err := t.advance(appendRef([]byte{byte(len(v.blocks))}, v.root)); err != nil {
+	if err := t.advance(bindOf(len(v.blocks), v.root)); err != nil {
 		return err
 	}
 	t.bound = v
@@ -192,13 +189,11 @@ func (t *tree) move(instead ...api.Frame) error {
 
 // gather tells all blocks that are not nothing, those that are handed in among them.
 func (t *tree) gather(instead []api.Frame) ([]api.Frame, error) {
-	var looks []look
-	for n, at := range t.blocks {
-		isN := func(f api.Frame) bool { return f.Index == n }
-		if !at.isNone() && !slices.ContainsFunc(instead, isN) {
-			looks = append(looks, look{kind: api.Data, index: n, at: at})
-		}
+	others := slices.Clone(t.blocks)
+	for _, f := range instead {
+		others[f.Index] = ref{}
 	}
+	looks := looksFor(api.Data, others)
 	if err := t.openAll(looks); err != nil {
 		return nil, err
 	}
@@ -220,4 +215,39 @@ func (t *tree) format() error {
 		}
 	}
 	return t.move()
+}
+
+// mount takes up the version whose root lies there, and binds it again: so a new epoch begins ahead of the next frame. With the anchor at its end no frame will come.
+func (t *tree) mount(root ref) error {
+	v, err := t.find(root)
+	if err != nil {
+		return err
+	}
+	t.blocks, t.bound = slices.Clone(v.blocks), v
+	if len(t.empty()) < t.toMove() { // no store lets it come to that
+		return &fault{"frames all over the disk", nowhere, nowhere, errWrong}
+	}
+	if t.spent() {
+		return nil
+	}
+	return t.bind(v)
+}
+
+// find walks down from a root. The blocks are opened too, though nobody asks for them yet: one that is not there must be told now.
+func (t *tree) find(root ref) (version, error) {
+	v := newVersion(len(t.blocks))
+	v.root = root
+	top := []look{{kind: api.Root, index: len(t.blocks), at: root}}
+	if err := t.openAll(top); err != nil {
+		return v, err
+	}
+	fill(v.leaves, top[0].body)
+	leaves := looksFor(api.Leaf, v.leaves)
+	if err := t.openAll(leaves); err != nil {
+		return v, err
+	}
+	for _, k := range leaves {
+		fill(under(v.blocks, k.index), k.body)
+	}
+	return v, t.openAll(looksFor(api.Data, v.blocks))
 }
